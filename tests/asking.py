@@ -1,0 +1,77 @@
+"""How the tests write calls and take answers apart."""
+
+from genedrift.desk import answers
+
+LEAST = -9223372036854775808
+GREATEST = 9223372036854775807
+FAR_NUMBERS = [LEAST, -1000, -1, 1000, GREATEST]
+
+
+def listed(number, members):
+    return [number, len(members)] + list(members)
+
+
+def found(kinds):
+    return listed(0, kinds)
+
+
+def now():
+    return [1]
+
+
+def turn(draws):
+    return listed(2, draws)
+
+
+def undo():
+    return [3]
+
+
+def number(k):
+    return [4, k]
+
+
+def back(t, c):
+    return [5, t, c]
+
+
+def common(copies):
+    return listed(6, copies)
+
+
+def lines(t):
+    return [7, t]
+
+
+def every(t):
+    """The call 8, all."""
+    return [8, t]
+
+
+def taken_apart(told):
+    """The answers, each as a list of its own."""
+    parts = []
+    at = 0
+    while at < len(told):
+        end = at + 1 + told[at]
+        if told[at] < 1 or end > len(told):
+            raise AssertionError(f"no answer of {told[at]} numbers at {at}")
+        parts.append(told[at + 1:end])
+        at = end
+    return parts
+
+
+def ask(*calls):
+    """The answer of each of these calls, which are handed in as one list."""
+    told = answers([member for call in calls for member in call])
+    if type(told) is not list or any(type(member) is not int for member in told):
+        raise AssertionError(f"not a list of whole numbers: {told}")
+    parts = taken_apart(told)
+    if len(parts) != len(calls):
+        raise AssertionError(f"{len(parts)} answers to {len(calls)} calls")
+    return parts
+
+
+def last(*calls):
+    """The answer of the last of these calls."""
+    return ask(*calls)[-1]
