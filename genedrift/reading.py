@@ -1,7 +1,6 @@
 """How the calls stand one behind another in one list of whole numbers."""
 
 # By a call's number: how many whole numbers it has, and how many lists.
-# Calls that are not answered yet stand here too, so that what is behind them can be read.
 SHAPES = {
     0: (0, 1),
     1: (0, 0),

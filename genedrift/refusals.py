@@ -14,11 +14,14 @@ def is_within(number, low, high):
     return low <= number <= high
 
 
-def is_list_within(members, shortest, longest, low, high):
-    """Whether there are shortest to longest members, each from low to high."""
-    if not is_within(len(members), shortest, longest):
-        return False
-    for member in members:
-        if not is_within(member, low, high):
+def are_within(numbers, low, high):
+    """Whether each of these numbers is one from low to high."""
+    for number in numbers:
+        if not is_within(number, low, high):
             return False
     return True
+
+
+def is_list_within(members, shortest, longest, low, high):
+    """Whether there are shortest to longest members, each from low to high."""
+    return is_within(len(members), shortest, longest) and are_within(members, low, high)

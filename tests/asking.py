@@ -48,6 +48,38 @@ def every(t):
     return [8, t]
 
 
+def ways(i, j, t):
+    return [9, i, j, t]
+
+
+def first(i, t):
+    return [10, i, t]
+
+
+def merge(m, k, t):
+    return [11, m, k, t]
+
+
+def alike(t):
+    return [12, t]
+
+
+def unlike(i, t):
+    return [13, i, t]
+
+
+def toward(c, d):
+    return listed(14, c) + [len(d)] + list(d)
+
+
+def takes(i, a, b):
+    return [15, i, a, b]
+
+
+def chances(i, a, b):
+    return [16, i, a, b]
+
+
 def taken_apart(told):
     """The answers, each as a list of its own."""
     parts = []
@@ -75,3 +107,20 @@ def ask(*calls):
 def last(*calls):
     """The answer of the last of these calls."""
     return ask(*calls)[-1]
+
+
+def asked_of(n, calls):
+    """The answer of each of these calls of n copies, in as many lists of calls as are needed."""
+    told = []
+    for start in range(0, len(calls), 399):
+        told += ask(found([0] * n), *calls[start:start + 399])[1:]
+    return told
+
+
+def numbers_of(n, calls):
+    """The one number that each of these calls of n copies answers; none of them is refused."""
+    told = asked_of(n, calls)
+    for call, answer in zip(calls, told):
+        if len(answer) != 1 or answer[0] < 0:
+            raise AssertionError(f"{call} of {n} copies answers {answer}")
+    return [answer[0] for answer in told]

@@ -34,6 +34,12 @@ WORDS = """
 
 PARTS_OF_WORDS = ("dataclass", "overload", "contextmanager")
 
+UNUSED_NAMES = """
+    register mro elements open input version_info with_traceback add_note attrgetter breakpoint builtins compile
+    copyright credits delattr dir eval exec exit gc getattr globals hasattr help id importlib license locals
+    methodcaller os quit setattr super sys vars format format_map
+""".split()
+
 
 def package_files():
     return sorted(path for path in PACKAGE.rglob("*") if path.is_file() and path.parent.name != "__pycache__")
@@ -45,6 +51,22 @@ def trees():
 
 def nodes(kind):
     return [(name, node) for name, tree in trees() for node in ast.walk(tree) if isinstance(node, kind)]
+
+
+def top_names(tree):
+    """The names that are bound at a file's top, and those among them that are imports or classes."""
+    bound = []
+    taken = []
+    for node in tree.body:
+        if isinstance(node, ast.ImportFrom):
+            taken += [alias.asname or alias.name for alias in node.names]
+        elif isinstance(node, ast.ClassDef):
+            taken.append(node.name)
+        elif isinstance(node, ast.FunctionDef):
+            bound.append(node.name)
+        elif isinstance(node, ast.Assign):
+            bound += [target.id for target in node.targets]
+    return bound + taken, taken
 
 
 class Files(unittest.TestCase):
@@ -78,6 +100,57 @@ class Code(unittest.TestCase):
         for name, node in nodes(ast.ImportFrom):
             self.assertEqual(node.level, 0, name)
             self.assertRegex(node.module, r"^genedrift\.[a-z_]+$", name)
+
+    def test_imports_are_from_the_file_that_defines_the_name(self):
+        defined = {}
+        for name, tree in trees():
+            bound, taken = top_names(tree)
+            classes = [node.name for node in tree.body if isinstance(node, ast.ClassDef)]
+            defined[name] = [word for word in bound if word not in taken] + classes
+        for name, node in nodes(ast.ImportFrom):
+            for alias in node.names:
+                self.assertIn(alias.name, defined[node.module.split(".")[1] + ".py"], name)
+
+    def test_no_two_files_draw_from_one_another(self):
+        drawn = {name: [] for name, tree in trees()}
+        for name, node in nodes(ast.ImportFrom):
+            drawn[name].append(node.module.split(".")[1] + ".py")
+        while drawn:
+            free = [name for name in drawn if not any(other in drawn for other in drawn[name])]
+            self.assertNotEqual(free, [], drawn)
+            for name in free:
+                drawn.pop(name)
+
+    def test_the_top_of_a_file(self):
+        for name, tree in trees():
+            bound, taken = top_names(tree)
+            self.assertEqual(len(bound), len(set(bound)), name)
+            for place, node in enumerate(tree.body):
+                if place == 0:
+                    self.assertIsNotNone(ast.get_docstring(tree), name)
+                else:
+                    self.assertIsInstance(node, (ast.ImportFrom, ast.FunctionDef, ast.ClassDef, ast.Assign), name)
+
+    def test_no_local_is_called_like_an_import_or_a_class(self):
+        for name, tree in trees():
+            bound, taken = top_names(tree)
+            for function in [node for node in ast.walk(tree) if isinstance(node, ast.FunctionDef)]:
+                for node in ast.walk(function):
+                    if isinstance(node, ast.arg):
+                        self.assertNotIn(node.arg, taken, f"{name}, {function.name}")
+                    elif isinstance(node, ast.Name) and isinstance(node.ctx, ast.Store):
+                        self.assertNotIn(node.id, bound, f"{name}, {function.name}")
+
+    def test_names_that_are_not_used(self):
+        for name, node in nodes((ast.Name, ast.Attribute, ast.arg, ast.FunctionDef)):
+            used = [getattr(node, field, None) for field in ("id", "attr", "arg", "name")]
+            for word in used:
+                self.assertNotIn(word, UNUSED_NAMES, f"{name}, line {node.lineno}")
+
+    def test_no_percent_sign_within_a_text(self):
+        for name, node in nodes(ast.Constant):
+            if isinstance(node.value, str):
+                self.assertNotIn("%", node.value, f"{name}, line {node.lineno}")
 
     def test_functions(self):
         for name, node in nodes(ast.FunctionDef):
